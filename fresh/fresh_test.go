@@ -158,11 +158,30 @@ func check[T any](t *testing.T, anew func() []T, call func(x T) T) {
 
 func TestFresh(t *testing.T) { // R2
 	check(t, filters, fresh.Filter)
+	check(t, filters, fresh.Whole)
 	check(t, knowns, fresh.Know)
 	check(t, states, fresh.State)
 	check(t, func() []api.Pred {
 		return []api.Pred{deep(1000), wide(2000), or(wide(20), deep(300), wide(500)), bush(8)}
 	}, fresh.Filter)
+	check(t, func() []api.Pred {
+		return []api.Pred{wide(1<<16 + 1), or(wide(1<<15), deep(1000), not(bush(15)))}
+	}, fresh.Whole)
+}
+
+// TestWhole asks that filters with more parts than small ones have are told in new memory, and those with more than one call may tell as they are, in time: R2, P1.
+func TestWhole(t *testing.T) {
+	for i, p := range []api.Pred{wide(1 << 20), deep(1<<16 + 1), bush(19), not(wide(10), bush(18)), or(slices.Repeat([]api.Pred{and(star)}, 1<<19)...)} {
+		got := fresh.Whole(p)
+		if got.Op != p.Op || len(got.Kids) != len(p.Kids) || &got.Kids[0] == &p.Kids[0] {
+			t.Errorf("filter %d isn't told in new memory", i)
+		}
+	}
+	for i, p := range []api.Pred{bush(25), bush(60), not(star, bush(60)), or(slices.Repeat([]api.Pred{bush(60)}, 1000)...)} {
+		if got := fresh.Whole(p); got.Op != p.Op || len(got.Kids) != len(p.Kids) || &got.Kids[0] != &p.Kids[0] {
+			t.Errorf("filter %d, with more parts than may be told, is told as another one", i)
+		}
+	}
 }
 
 func TestSmall(t *testing.T) { // P1
